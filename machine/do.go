@@ -78,7 +78,9 @@ func (m *Machine) drop(ids ...int) {
 
 // keys tells all that are there, rising.
 func keys(s *mvcc.Store) []api.KV {
-	beyond := strings.Repeat("\xff", api.MaxKey+1) // behind all that can be a key
-	all, _, _ := s.Range("", beyond, 0, 0)         // the present is always to be told
+	all, _, _ := s.Range("", beyond(), 0, 0) // the present is always to be told
 	return all
 }
+
+// beyond lies behind all that can be a key.
+func beyond() string { return strings.Repeat("\xff", api.MaxKey+1) }

@@ -10,6 +10,12 @@ import (
 	"horologe/pen"
 )
 
+// What a transaction's ranges tell has at most maxTold bytes: of each key its own, its value's, and kvSize.
+const (
+	maxTold = 1 << 16
+	kvSize  = 40
+)
+
 func Load(b []byte) (*Machine, api.Errno) {
 	rest, size, err := pen.Unframe(b)
 	if err != api.OK {
@@ -61,7 +67,7 @@ func readKV(r *pen.Reader) api.KV {
 	return api.KV{Key: r.Text(), Value: r.Text(), Create: r.Int(), Mod: r.Int(), Version: r.Int(), Lease: r.Int()}
 }
 
-// couldBe tells whether the parts of a machine fit together as commands leave them: no lease and no reply is ahead of the clock and the store, no key's lease is gone.
+// couldBe tells whether commands can have left all parts of a machine so, side by side.
 func (m *Machine) couldBe() bool {
 	if !isTime(m.clock) {
 		return false
@@ -81,19 +87,38 @@ func (m *Machine) couldBe() bool {
 			return false
 		}
 	}
-	return true
+	return m.couldBeDone()
 }
 
-// couldAnswer tells whether a reply can be one of this machine's: what was refused, for whatever a command can be, tells nothing else.
+// couldAnswer tells whether a reply can be one of this machine's, whatever its keys were: what was refused, for whatever a command can be, tells nothing else.
 func (m *Machine) couldAnswer(r api.Reply) bool {
 	if r.Rev < 0 || r.Rev > m.store.Rev() || r.Time < 0 || r.Time > m.clock {
 		return false
 	}
 	switch r.Err {
 	case api.OK:
-		return len(r.Results) <= api.MaxOps
-	case api.ErrArg, api.ErrNone, api.ErrKind, api.ErrMany, api.ErrLong, api.ErrIs, api.ErrFull, api.ErrPast, api.ErrFuture, api.ErrTwice, api.ErrLease:
+		return couldTell(r.Results)
+	case api.ErrPast:
+		if r.Rev == 0 || m.store.Compacted() == 0 {
+			return false
+		}
+		fallthrough
+	case api.ErrArg, api.ErrNone, api.ErrKind, api.ErrMany, api.ErrLong, api.ErrIs, api.ErrFull, api.ErrFuture, api.ErrTwice, api.ErrLease:
 		return !r.Then && len(r.Results) == 0
 	}
 	return false
+}
+
+// couldTell tells whether a transaction's results are no more than they may be.
+func couldTell(results []api.Result) bool {
+	size := 0
+	for _, r := range results {
+		if r.N < len(r.KVs) {
+			return false
+		}
+		for _, kv := range r.KVs {
+			size += len(kv.Key) + len(kv.Value) + kvSize
+		}
+	}
+	return len(results) <= api.MaxOps && size <= maxTold
 }

@@ -139,24 +139,31 @@ func TestP1203WhichClientsCanBe(t *testing.T) {
 }
 
 func TestP1203WhichRepliesCanBe(t *testing.T) {
-	told := []api.Result{{N: 2, KVs: []api.KV{{Key: "a", Value: "3", Create: 1, Mod: 2, Version: 2}}}, {}, {N: 1}}
+	told := []api.Result{{N: 1}, {N: 2, KVs: []api.KV{{Key: "a", Value: "3", Create: 1, Mod: 2, Version: 2}}}, {}}
 	for _, c := range []struct {
 		what  string
 		reply api.Reply
 		want  bool
 	}{
 		{"nothing", api.Reply{}, true}, {"of now", api.Reply{Rev: 2, Time: 7}, true}, {"Rev ahead", api.Reply{Rev: 3}, false}, {"Rev below 0", api.Reply{Rev: -1}, false}, {"Time ahead", api.Reply{Time: 8}, false}, {"Time below 0", api.Reply{Time: -1}, false}, {"both ahead", api.Reply{Rev: math.MaxInt, Time: math.MaxInt}, false},
-		{"Then", api.Reply{Then: true}, true}, {"results", api.Reply{Then: true, Results: told, Rev: 2, Time: 7}, true}, {"of Else", api.Reply{Results: told}, true}, {"32", api.Reply{Results: make([]api.Result, 32)}, true}, {"33", api.Reply{Results: make([]api.Result, 33)}, false},
+		{"Then", api.Reply{Then: true}, true}, {"results", api.Reply{Then: true, Results: told, Rev: 2, Time: 7}, true}, {"of Else", api.Reply{Results: told, Rev: 2}, true}, {"32", api.Reply{Results: make([]api.Result, 32)}, true}, {"33", api.Reply{Results: make([]api.Result, 33)}, false},
 		{"refused, and Then", api.Reply{Err: api.ErrArg, Then: true}, false}, {"refused, with results", api.Reply{Err: api.ErrArg, Results: told}, false},
+		{"N below 0", api.Reply{Rev: 1, Results: []api.Result{{N: -1}}}, false}, {"the least N", api.Reply{Rev: 1, Results: []api.Result{{N: math.MinInt}, {N: math.MaxInt}, {N: 1}}}, false}, {"the greatest", api.Reply{Rev: 1, Results: []api.Result{{N: math.MaxInt}, {N: math.MaxInt}, {N: 2}}}, false},
+		{"ErrPast of what is not compacted", api.Reply{Err: api.ErrPast, Rev: 2}, false}, {"ErrPast at 0", api.Reply{Err: api.ErrPast}, false}, {"ErrFull of two keys", api.Reply{Err: api.ErrFull, Rev: 2}, false},
 	} {
 		if got := taken(t, parts{clock: 7, rows: []folk.Row{rowOf(3, 5, c.reply)}, store: stored(0, 0)}.bytes()); got != c.want {
 			t.Errorf("%s: %v", c.what, got)
 		}
 	}
-	refusals := []api.Errno{api.OK, api.ErrArg, api.ErrNone, api.ErrKind, api.ErrMany, api.ErrLong, api.ErrIs, api.ErrFull, api.ErrPast, api.ErrFuture, api.ErrTwice, api.ErrLease}
+	refusals := []api.Errno{api.OK, api.ErrArg, api.ErrNone, api.ErrKind, api.ErrMany, api.ErrLong, api.ErrIs, api.ErrPast, api.ErrFuture, api.ErrTwice, api.ErrLease}
+	compacted := stored(0, 0)
+	compacted.Compact(1)
+	if taken(t, parts{rows: []folk.Row{rowOf(3, 5, api.Reply{Err: api.ErrPast})}, store: compacted}.bytes()) {
+		t.Error("ErrPast, when nothing can have been compacted")
+	}
 	for err := api.Errno(-3); err < 300; err++ {
 		reply := api.Reply{Err: err, Rev: 1, Time: 1}
-		if got := taken(t, parts{clock: 7, rows: []folk.Row{rowOf(3, 5, reply)}, store: stored(0, 0)}.bytes()); got != slices.Contains(refusals, err) {
+		if got := taken(t, parts{clock: 7, rows: []folk.Row{rowOf(3, 5, reply)}, store: compacted}.bytes()); got != slices.Contains(refusals, err) {
 			t.Errorf("%v: %v", err, got)
 		}
 	}
