@@ -99,6 +99,17 @@ func (l *lives) tooMany() bool {
 	return crowd(slices.Concat(l.created, l.puts)) > api.MaxOps || crowd(there) > api.MaxKeys
 }
 
+// known tells how many keys are known to have been there at the end of a revision.
+func (l *lives) known(rev int) int {
+	n := 0
+	for _, spans := range l.there {
+		if slices.ContainsFunc(spans, func(s span) bool { return s.has(rev) }) {
+			n++
+		}
+	}
+	return n
+}
+
 // crowd tells how many spans, at most, have a revision in common.
 func crowd(spans []span) int {
 	var from, to []int

@@ -11,11 +11,17 @@ type old struct {
 	rev  int
 	base *scene
 	lives
+	most level
+}
+
+// level is how many keys, at most, were there at the end of a revision.
+type level struct {
+	rev, keys int
 }
 
 // couldBeCompacted tells whether commands can have left these keys at a revision, and answered so up to then. As most of what they did is forgotten, only what can't be is looked for.
 func couldBeCompacted(rev int, base []api.KV, replies []api.Reply) bool {
-	o := &old{rev: rev, base: newScene(base), lives: lives{facts: map[string][]fact{}}}
+	o := &old{rev: rev, base: newScene(base), lives: lives{facts: map[string][]fact{}}, most: level{rev, len(base)}}
 	for _, kv := range base {
 		o.facts[kv.Key] = []fact{{kv, rev}}
 	}
@@ -27,12 +33,12 @@ func couldBeCompacted(rev int, base []api.KV, replies []api.Reply) bool {
 	if !couldHold(base) || !o.ordered() || o.tooMany() || o.lacks() || o.idles() {
 		return false
 	}
-	for len(replies) > 0 {
-		n, _ := slices.BinarySearchFunc(replies, replies[0].Rev+1, byRev)
-		if !o.couldBeAt(replies[:n]) {
+	for n := len(replies); n > 0; { // from the last one on, as it is the end of which most is known
+		first, _ := slices.BinarySearchFunc(replies, replies[n-1].Rev, byRev)
+		if !o.couldBeAt(replies[first:n]) {
 			return false
 		}
-		replies = replies[n:]
+		n = first
 	}
 	return true
 }
@@ -52,9 +58,6 @@ func couldHold(kvs []api.KV) bool {
 
 // note takes what a reply tells for facts, if it can be told at its revision, whatever was there.
 func (o *old) note(r api.Reply) bool {
-	if r.Err == api.ErrFull && mostKeys(r.Rev)+api.MaxOps <= api.MaxKeys {
-		return false
-	}
 	left := changed(r)
 	for _, x := range r.Results {
 		if len(x.KVs) == 0 {
@@ -123,16 +126,24 @@ func (o *old) idles() bool {
 
 // couldBeAt tells whether these replies can be those of one revision: one of them can be of the transaction that made it, and was the first one then; all others found it made.
 func (o *old) couldBeAt(replies []api.Reply) bool {
-	made := false
+	rev := replies[0].Rev
+	if o.most.rev != rev {
+		o.most = level{rev, mostKeys(rev)}
+	}
+	if o.known(rev) > o.most.keys {
+		return false
+	}
+	ahead := level{rev: -1} // not known, unless it is known what the revision did
 	for _, r := range replies {
 		if o.foundMade(r) {
 			continue
 		}
-		if made || r.Time != replies[0].Time || !o.couldHaveMade(r) {
+		if ahead.rev >= 0 || r.Time != replies[0].Time || !o.couldHaveMade(r) {
 			return false
 		}
-		made = true
+		ahead = level{rev - 1, o.most.keys + changed(r) - len(windows(o.puts, r)) - len(windows(o.created, r))}
 	}
+	o.most = ahead
 	return true
 }
 
@@ -141,7 +152,10 @@ func (o *old) foundMade(r api.Reply) bool {
 	if r.Rev == o.rev {
 		return o.base.answers(r)
 	}
-	return changed(r) == 0 && !slices.ContainsFunc(r.Results, func(x api.Result) bool { return o.passesOver(x.KVs, r.Rev, true) })
+	if r.Err == api.ErrFull {
+		return lacksRoom(o.most.keys)
+	}
+	return changed(r) == 0 && !slices.ContainsFunc(r.Results, func(x api.Result) bool { return x.N > o.most.keys || o.passesOver(x.KVs, r.Rev, true) })
 }
 
 // couldHaveMade tells whether a reply can be of the transaction that made its revision, with all the puts that it is known to have had.
@@ -153,94 +167,8 @@ func (o *old) couldHaveMade(r api.Reply) bool {
 		return false
 	}
 	puts := windows(o.puts, r)
-	if r.Rev == o.rev && o.foundMore(r, puts) {
+	if o.foundMore(r, puts) {
 		return false
 	}
 	return fit(windows(o.created, r), r.Results, 0) && fit(puts, r.Results, 1)
-}
-
-// window is between which results of a transaction it put a key.
-type window struct {
-	behind, ahead int
-}
-
-// windows tells that of each key that a revision put, as far as the transaction's own results tell it.
-func windows(spans []span, r api.Reply) []window {
-	var all []window
-	for _, s := range spans {
-		if !s.has(r.Rev) {
-			continue
-		}
-		w := window{-1, len(r.Results)}
-		for i, x := range r.Results {
-			at, told := slices.BinarySearchFunc(x.KVs, s.key, byKey)
-			switch {
-			case told && x.KVs[at].Mod == r.Rev:
-				w.ahead = min(w.ahead, i)
-			case told || at > 0 && at < len(x.KVs): // as it was, or passed over
-				w.behind = i
-			}
-		}
-		all = append(all, w)
-	}
-	return all
-}
-
-// fit tells whether each window has an operation of its own that was answered by n: of those that can be the one, the first to close takes it.
-func fit(windows []window, results []api.Result, n int) bool {
-	for i, x := range results {
-		if len(x.KVs) > 0 || x.N != n {
-			continue
-		}
-		next := -1
-		for j, w := range windows {
-			if w.behind < i && i < w.ahead && (next < 0 || w.ahead < windows[next].ahead) {
-				next = j
-			}
-		}
-		if next >= 0 {
-			windows = slices.Delete(windows, next, next+1)
-		}
-	}
-	return len(windows) == 0
-}
-
-// foundMore tells whether the transaction that made the last revision found more keys than are there at its end, and than it can have deleted later on.
-func (o *old) foundMore(r api.Reply, puts []window) bool {
-	left, slots := changed(r), 0
-	for i, x := range r.Results {
-		if len(x.KVs) > 0 {
-			if o.gone(x) > left-laterPuts(puts, i, slots) {
-				return true
-			}
-			continue
-		}
-		if left -= x.N; x.N == 1 {
-			slots++
-		}
-	}
-	return false
-}
-
-// gone tells how many keys, at least, a result found that are not there at the last revision's end.
-func (o *old) gone(x api.Result) int {
-	n := 0
-	for _, kv := range x.KVs {
-		if _, there := o.base.kvs[kv.Key]; !there {
-			n++
-		}
-	}
-	at, _ := slices.BinarySearch(o.base.keys, x.KVs[0].Key)
-	return max(n, x.N-(len(o.base.keys)-at))
-}
-
-// laterPuts tells how many puts, at least, come behind a result: those of which it tells the key as it was, and those for which there were not slots enough ahead of it.
-func laterPuts(puts []window, result, slots int) int {
-	n := 0
-	for _, w := range puts {
-		if w.behind >= result {
-			n++
-		}
-	}
-	return max(n, len(puts)-slots)
 }

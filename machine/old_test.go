@@ -48,13 +48,13 @@ func TestP1203RepliesOfACompactedPast(t *testing.T) {
 		{1, "0 0 0", true}, {1, "1", false}, {1, "0 1", false}, {1, "5:a.1.1.1", true}, {1, "32:a.1.1.1", true}, {1, "33:a.1.1.1", false}, {1, "1:a.1.2.2", false}, {1, "1:a.0.1.1", false}, {1, "1:a.1.1.0", false}, {1, "1:a.1.1.2", false}, {1, "1:a.2.1.1", false}, {1, "1:" + longest + ".1.1.1", true}, {1, "1:" + long + ".1.1.1", false}, {1, "1:.1.1.1", false}, {1, "0:a.1.1.1", false}, {1, "2:a.1.1.1,a.1.1.1", false}, {1, "2:b.1.1.1,a.1.1.1", false},
 		{1, "1:c.1.1.1", true}, {1, "2:b.1.1.1,d.1.1.1", false}, {1, "0 0 2:b.1.1.1,d.1.1.1 0", true}, {1, "0 2:b.1.1.1,d.1.1.1 0 0", false}, {1, "0 2:b.1.1.1,d.1.1.1 0", false}, {1, "0 0 2:b.1.1.1,d.1.1.1 0 3:b.1.1.1,c.1.1.1,d.1.1.1", true}, {1, "0 0 0 3:b.1.1.1,c.1.1.1,d.1.1.1 2:b.1.1.1,d.1.1.1", false},
 		// at 2 and 3 c was as it was at 1; what f was is not known
-		{2, "1:c.1.1.1", true}, {2, "1:c.1.2.2", false}, {2, "1:c.2.2.1", false}, {2, "2:b.1.1.1,d.2.2.1", false}, {2, "3:b.1.1.1,c.1.1.1,d.2.2.1", true}, {2, "64:c.1.1.1", true}, {2, "65:c.1.1.1", false}, {2, "32", true}, {2, "33", false}, {2, "30 2", true}, {2, "30 3", false},
+		{2, "1:c.1.1.1", true}, {2, "1:c.1.2.2", false}, {2, "1:c.2.2.1", false}, {2, "2:b.1.1.1,d.2.2.1", false}, {2, "3:b.1.1.1,c.1.1.1,d.2.2.1", true}, {2, "64:c.1.1.1", true}, {2, "65:c.1.1.1", false}, {2, "32", true}, {2, "33", false}, {2, "30 2", true}, {2, "30 3", false}, {2, "9223372036854775807 9223372036854775807 2", false}, {2, "9223372036854775807 9223372036854775807 3", false},
 		{2, "1:f.1.1.1", true}, {2, "1:f.2.2.1", true}, {3, "1:f.2.2.1", false}, {3, "1:f.3.3.1", false}, {3, "1:f.2.2.1 1", true}, {3, "1 1:f.2.2.1", false}, {3, "1:f.2.2.1 0", false}, {3, "1 0 1:f.3.3.1", false}, {3, "1:b.2.3.2", true}, {3, "1:b.1.3.2", true}, {3, "1:b.1.3.4", false}, {3, "1:b.1.3.1", false},
 		{3, "1:b.1.1.1 1 1:b.1.3.2", true}, {3, "1:b.1.1.1 1:b.1.3.2", false}, {3, "1:b.1.1.1 0 1:b.1.3.2", false}, {3, "1 1:b.1.1.1 1:b.1.3.2", false}, {3, "1:b.1.3.2 1 1:b.1.1.1", false}, {3, "1:b.1.1.1 1 1:b.1.3.3", false}, {3, "1:b.1.1.1 1 1:b.3.3.1", false}, {3, "1:b.1.2.2 1 0 1:b.1.3.3", true}, {3, "2:b.1.1.1,d.1.1.1 1", false}, {3, "3:b.1.1.1,c.1.1.1,d.1.1.1 1", true},
 		// at 4 c was put, f was new, and nothing else stayed
 		{4, "2:c.1.4.2,f.4.4.1", true}, {4, "2:c.1.4.2", true}, {4, "1:f.4.4.1", true}, {4, "3:c.1.4.2", false}, {4, "1:c.1.1.1", false}, {4, "1:d.4.4.1 1 0", false}, {4, "0 1:d.4.4.1 1 0", false}, {4, "0 1:d.4.4.1 1 0 1", false}, {4, "0 1:f.4.4.1 1 0 1", true}, {4, "1:d.2.2.1", false}, {4, "0", true}, {4, "0 0", true}, {4, "1 0", true}, {4, "0 1", true}, {4, "1", false}, {4, "1 1", false}, {4, "2 0", false}, {4, "2 1 0", true}, {4, "1 0 0 7", true}, {4, "96 1", false}, {4, "95 1 0", true}, {4, "96 1 0", false},
 		{4, "1:c.1.1.1 1 0", true}, {4, "1 1:c.1.1.1 0", false}, {4, "1 1:c.1.4.2 0", true}, {4, "1 0 2:c.1.4.2,f.4.4.1", true}, {4, "1 2:c.1.4.2,f.4.4.1 0", false}, {4, "0 1:c.1.4.2 1", false}, {4, "1:c.1.4.2 1 0", false}, {4, "1:c.1.2.2 1 0", false},
-		{4, "4:c.1.1.1 1 3 0", true}, {4, "4:c.1.1.1 1 1 0", false}, {4, "1 4:c.1.4.2 2 0", true}, {4, "1 4:c.1.4.2 1 0", false}, {4, "1:q.2.3.2 1 0", false}, {4, "1:b.2.3.2 1 0", false}, {4, "1:b.2.3.2 1 1 0", true}, {4, "1 2:c.1.1.1,q.2.3.2 1 0", false}, {4, "1 2:c.1.1.1,q.2.3.2 1 1 0", true}, {4, "1:q.2.3.2 1 1 0", true}, {4, "1 1:q.2.3.2 1 0", true}, {4, "1 1 1:q.2.3.2 0", false}, {4, "2:q.2.3.2,r.1.1.1 1 0 2", true}, {4, "2:q.2.3.2,r.1.1.1 1 0 1", false}, {4, "2:b.1.1.1,d.1.1.1 1 2 0", false},
+		{4, "4:c.1.1.1 1 3 0", true}, {4, "4:c.1.1.1 1 1 0", false}, {4, "1 4:c.1.4.2 2 0", true}, {4, "1 4:c.1.4.2 1 0", false}, {4, "1:q.2.3.2 1 0", false}, {4, "1:b.2.3.2 1 0", false}, {4, "1:b.2.3.2 1 1 0", true}, {4, "5 1:b.2.3.2 1 0", false}, {4, "5 1:b.2.3.2 1 1 0", true}, {4, "1:b.2.3.2 0 2", false}, {4, "1:b.2.3.2 0 2 1", true}, {4, "1:f.4.4.1 1 0 1:f.4.4.1", false}, {4, "1 0 1:f.4.4.1 0 1:f.4.4.1", true}, {4, "1 2:c.1.1.1,q.2.3.2 1 0", false}, {4, "1 2:c.1.1.1,q.2.3.2 1 1 0", true}, {4, "1:q.2.3.2 1 1 0", true}, {4, "1 1:q.2.3.2 1 0", true}, {4, "1 1 1:q.2.3.2 0", false}, {4, "2:q.2.3.2,r.1.1.1 1 0 2", true}, {4, "2:q.2.3.2,r.1.1.1 1 0 1", false}, {4, "2:b.1.1.1,d.1.1.1 1 2 0", false},
 	} {
 		p := parts{rows: []folk.Row{rowOf(3, 5, api.Reply{Rev: c.rev, Results: told(c.text)})}, store: row4(t)}
 		p.store.Compact(4)
@@ -96,6 +96,9 @@ func TestP1203RepliesThatContradictEachOther(t *testing.T) {
 		{[2]int{2, 2}, [2]string{"1:x.1.2.2", "1:x.1.2.2"}, true}, {[2]int{2, 2}, [2]string{"1:x.1.2.2", "1:x.2.2.1"}, false}, {[2]int{2, 2}, [2]string{"1:x.1.1.1", "1:x.2.2.1"}, false}, {[2]int{2, 2}, [2]string{"1:x.1.1.1", "1:x.1.2.2"}, false}, {[2]int{2, 2}, [2]string{"1:x.1.1.1 1", "1:x.1.2.2"}, true}, {[2]int{2, 2}, [2]string{"1:x.1.1.1 1", "1:x.1.2.2 1"}, false},
 		{[2]int{2, 3}, [2]string{"1:x.1.1.1", "1:x.1.3.2"}, true}, {[2]int{2, 3}, [2]string{"1:x.1.1.1", "1:x.1.3.3"}, false}, {[2]int{2, 3}, [2]string{"1:x.1.2.2", "1:x.1.3.2"}, false}, {[2]int{2, 3}, [2]string{"1:x.1.2.2", "1:x.1.3.3"}, true}, {[2]int{2, 3}, [2]string{"1:x.1.2.2", "1:x.1.1.1"}, false}, {[2]int{2, 3}, [2]string{"1:x.1.2.2", "1:x.3.3.1"}, false}, {[2]int{1, 3}, [2]string{"1:x.1.1.1", "1:x.3.3.1"}, true}, {[2]int{1, 3}, [2]string{"1:x.1.1.1", "1:x.2.3.2"}, false},
 		{[2]int{2, 3}, [2]string{"2:x.1.1.1,z.1.1.1", "1:y.1.1.1"}, false}, {[2]int{2, 3}, [2]string{"2:x.1.1.1,z.1.1.1", "1:y.3.3.1"}, true}, {[2]int{2, 3}, [2]string{"2:x.1.1.1,z.1.1.1", "1:y.2.2.1"}, false}, {[2]int{2, 3}, [2]string{"0 2:x.1.1.1,z.1.1.1", "1:y.2.2.1"}, false}, {[2]int{2, 3}, [2]string{"2:x.1.1.1,z.1.1.1 0", "1:y.2.2.1"}, true}, {[2]int{2, 1}, [2]string{"2:x.1.1.1,z.1.1.1", "1:y.1.1.1"}, true},
+		{[2]int{3, 4}, [2]string{"1:c.1.1.1", "1 0"}, true}, {[2]int{3, 4}, [2]string{"2:c.1.1.1", "1 0"}, false}, {[2]int{3, 4}, [2]string{"5:c.1.1.1", "1 0 4"}, true}, {[2]int{3, 4}, [2]string{"6:c.1.1.1", "1 0 4"}, false}, {[2]int{3, 4}, [2]string{"6:c.1.1.1", "0"}, true}, {[2]int{2, 4}, [2]string{"6:c.1.1.1", "1 0"}, true}, // how many keys are left
+		{[2]int{3, 4}, [2]string{"2:c.1.1.1 1", "1 0"}, true}, {[2]int{3, 4}, [2]string{"3:c.1.1.1 1", "1 0"}, false}, {[2]int{3, 4}, [2]string{"1 2:c.1.1.1", "1 0"}, false}, {[2]int{3, 4}, [2]string{"3:c.1.1.1 1 1", "1 0"}, true},
+		{[2]int{1, 1}, [2]string{"0 0 2:b.1.1.1,d.1.1.1 0", "0"}, true}, {[2]int{1, 1}, [2]string{"0 0 2:b.1.1.1,d.1.1.1 0", "0 0 2:b.1.1.1,d.1.1.1 0"}, false},
 		{[2]int{2, 2}, [2]string{"1", "0"}, true}, {[2]int{2, 2}, [2]string{"1", "1"}, false}, {[2]int{2, 2}, [2]string{"2:x.1.1.1,z.1.1.1 0", "2:x.1.1.1,y.2.2.1"}, true}, {[2]int{2, 2}, [2]string{"2:x.1.1.1,z.1.1.1", "2:x.1.1.1,y.2.2.1"}, false}, {[2]int{2, 2}, [2]string{"2:x.1.1.1,z.1.1.1 0", "1:y.2.2.1 1"}, false},
 	} {
 		for _, turn := range []int{0, 1} {
@@ -107,6 +110,26 @@ func TestP1203RepliesThatContradictEachOther(t *testing.T) {
 			if got := taken(t, p.bytes()); got != c.want {
 				t.Errorf("%v, %q: %v", c.rev, c.texts, got)
 			}
+		}
+	}
+}
+
+// TestP1203HowManyKeysWereLeft: of revisions one behind the other it is known what they did, up to the last one, which left two keys.
+func TestP1203HowManyKeysWereLeft(t *testing.T) {
+	for _, c := range []struct {
+		texts []string // at 2, 3, 4
+		want  bool
+	}{
+		{[]string{"1:c.1.1.1", "2", "1 0"}, true}, {[]string{"3:c.1.1.1", "2", "1 0"}, true}, {[]string{"4:c.1.1.1", "2", "1 0"}, false}, {[]string{"4:c.1.1.1", "0", "1 0"}, true}, {[]string{"6:c.1.1.1", "2", "1 0 3"}, true}, {[]string{"7:c.1.1.1", "2", "1 0 3"}, false},
+		{[]string{"0", "1:c.1.1.1 1:a.1.1.1", "1 0 1"}, true}, {[]string{"0", "1:c.1.1.1 1:a.1.1.1", "1 0"}, false}, {[]string{"1:c.1.1.1 1:a.1.1.1", "1", "1 0"}, true}, {[]string{"1:c.1.1.1 1:a.1.1.1 1:b.1.1.1", "1", "1 0"}, false},
+	} {
+		p := parts{store: row4(t)}
+		for i, text := range c.texts {
+			p.rows = append(p.rows, rowOf(i+1, 1, api.Reply{Rev: i + 2, Results: told(text)}))
+		}
+		p.store.Compact(4)
+		if got := taken(t, p.bytes()); got != c.want {
+			t.Errorf("%q: %v", c.texts, got)
 		}
 	}
 }

@@ -81,10 +81,13 @@ func (s *scene) tells(r api.Result) bool {
 	return true
 }
 
+// lacksRoom tells whether there are so many keys that a transaction can be refused because it puts more.
+func lacksRoom(keys int) bool { return keys+api.MaxOps > api.MaxKeys }
+
 // answers says whether a command that changes nothing can be answered so.
 func (s *scene) answers(r api.Reply) bool {
-	if r.Err == api.ErrFull { // a transaction has no room for as many keys as it may put
-		return len(s.keys)+api.MaxOps > api.MaxKeys
+	if r.Err == api.ErrFull {
+		return lacksRoom(len(s.keys))
 	}
 	return !slices.ContainsFunc(r.Results, func(x api.Result) bool { return !s.tells(x) })
 }
