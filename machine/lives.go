@@ -3,10 +3,14 @@ package machine
 import (
 	"cmp"
 	"maps"
+	"math"
 	"slices"
 
 	"horologe/api"
 )
+
+// never is by when a key went that is there still.
+const never = math.MaxInt
 
 // fact is a key as it was, and the last revision at whose end it is known to have been so.
 type fact struct {
@@ -22,47 +26,70 @@ type span struct {
 
 func (s span) has(rev int) bool { return s.from <= rev && rev <= s.to }
 
+// life is the revisions, from the one on that created a key, at whose ends it is known to have been there.
+type life struct {
+	span
+	lease     int // when it was told last
+	since, by int // the first and the last revision by which it can have gone
+}
+
+// ended tells whether the key is not there any more, or has come anew.
+func (x *life) ended() bool { return x.by != never }
+
+// mayGoBy tells whether a life can have ended, or its key have been put once more, by a revision.
+func (x *life) mayGoBy(rev int) bool { return x.ended() && x.since <= rev && rev <= x.by }
+
+// mustGoBy tells whether a life must have ended by some revisions.
+func (x *life) mustGoBy(from, to int) bool { return x.since >= from && x.by <= to }
+
+// loose is n puts of a key, being there, each by another one of some revisions.
+type loose struct {
+	span
+	n int
+}
+
 // lives is what is known of keys in a past that is forgotten.
 type lives struct {
-	keys    []string          // of which something is known, rising
-	facts   map[string][]fact // in the order in which they came true
-	there   map[string][]span // from when to when a key was there, as far as that is known
+	facts   map[string][]fact // of each key, in the order in which they came true
+	all     []*life           // by keys, then in order
 	created []span            // of one revision each, which created the key
 	puts    []span            // by each of whose revisions the key was put, being there
-	hidden  bool              // whether there were puts of which no revision is known
+	loose   []loose
 }
 
 // ordered brings facts in order, and tells whether each can have come true behind the one ahead of it.
 func (l *lives) ordered() bool {
-	l.keys, l.there = slices.Sorted(maps.Keys(l.facts)), map[string][]span{}
-	for _, key := range l.keys {
+	for _, key := range slices.Sorted(maps.Keys(l.facts)) {
 		slices.SortFunc(l.facts[key], func(a, b fact) int {
 			return cmp.Or(cmp.Compare(a.kv.Mod, b.kv.Mod), cmp.Compare(a.still, b.still))
 		})
-		if !l.lived(key) {
+		if !l.lived(l.facts[key]) {
 			return false
 		}
 	}
 	return true
 }
 
-func (l *lives) lived(key string) bool {
-	var spans []span
+// lived makes the lives of a key out of its facts, if they can be.
+func (l *lives) lived(facts []fact) bool {
+	var x *life
 	var last fact
-	for i, f := range l.facts[key] {
+	for i, f := range facts {
 		if i > 0 && !follows(last, f) {
 			return false
 		}
 		if i == 0 || last.kv.Create != f.kv.Create {
-			last = fact{api.KV{Key: key, Create: f.kv.Create, Mod: f.kv.Create, Version: 1}, f.kv.Create}
-			spans = append(spans, span{key, f.kv.Create, f.kv.Create})
-			l.created = append(l.created, span{key, f.kv.Create, f.kv.Create})
+			if i > 0 {
+				x.by = f.kv.Create - 1
+			}
+			x = &life{span: span{f.kv.Key, f.kv.Create, f.kv.Create}, by: never}
+			l.all, l.created = append(l.all, x), append(l.created, x.span)
+			last = fact{api.KV{Create: x.from, Mod: x.from, Version: 1}, x.from}
 		}
 		l.putBetween(last, f)
-		spans[len(spans)-1].to = f.still
+		x.to, x.lease = f.still, f.kv.Lease
 		last = f
 	}
-	l.there[key] = spans
 	return true
 }
 
@@ -78,32 +105,47 @@ func follows(a, b fact) bool {
 	return b.kv.Create > a.still+1 // a revision in which it went lies between
 }
 
-// putBetween notes the revisions by which a key is known to have been put from a on, up to b: all of them, if they are no more than its Version needs.
+// putBetween notes the puts of a key from a on, up to b: by which revisions they were is known, if there are no more of these than its Version needs.
 func (l *lives) putBetween(a, b fact) {
-	switch {
-	case a.kv.Mod == b.kv.Mod:
-	case b.kv.Version-a.kv.Version == b.kv.Mod-a.still:
-		l.puts = append(l.puts, span{b.kv.Key, a.still + 1, b.kv.Mod})
+	if a.kv.Mod == b.kv.Mod {
+		return
+	}
+	from := b.kv.Mod
+	switch n := b.kv.Version - a.kv.Version - 1; n {
+	case from - 1 - a.still:
+		from = a.still + 1
+	case 0:
 	default:
-		l.puts = append(l.puts, span{b.kv.Key, b.kv.Mod, b.kv.Mod})
-		l.hidden = l.hidden || b.kv.Version-a.kv.Version > 1
+		l.loose = append(l.loose, loose{span{b.kv.Key, a.still + 1, from - 1}, n})
 	}
+	l.puts = append(l.puts, span{b.kv.Key, from, b.kv.Mod})
 }
 
-// tooMany tells whether a revision is known to have put more keys than a transaction can, or more keys to have been there than there is room for.
-func (l *lives) tooMany() bool {
-	var there []span
-	for _, spans := range l.there {
-		there = append(there, spans...)
-	}
-	return crowd(slices.Concat(l.created, l.puts)) > api.MaxOps || crowd(there) > api.MaxKeys
+// behind tells the lives of all keys from one on.
+func (l *lives) behind(key string) []*life {
+	first, _ := slices.BinarySearchFunc(l.all, key, func(x *life, key string) int { return cmp.Compare(x.key, key) })
+	return l.all[first:]
 }
 
-// known tells how many keys are known to have been there at the end of a revision.
-func (l *lives) known(rev int) int {
+// between tells the lives of keys that lie between two others.
+func (l *lives) between(lo, hi string) []*life {
+	all := l.behind(next(lo))
+	return all[:max(0, len(all)-len(l.behind(hi)))]
+}
+
+// of tells the lives of a key.
+func (l *lives) of(key string) []*life {
+	return l.behind(key)[:len(l.behind(key))-len(l.behind(next(key)))]
+}
+
+// next tells the text that is next behind another one.
+func next(key string) string { return key + "\x00" }
+
+// known tells how many of some keys are known to have been there at the end of a revision.
+func known(lives []*life, rev int) int {
 	n := 0
-	for _, spans := range l.there {
-		if slices.ContainsFunc(spans, func(s span) bool { return s.has(rev) }) {
+	for _, x := range lives {
+		if x.has(rev) {
 			n++
 		}
 	}
@@ -128,36 +170,33 @@ func crowd(spans []span) int {
 	return most
 }
 
-// gaps tells how many revisions, up to rev, no span has, and how many spans have each of the others, at least.
-func gaps(spans []span, rev int) (none, least int) {
-	steps := map[int]int{1: 0, rev + 1: 0}
-	for _, s := range spans {
-		steps[s.from]++
-		steps[s.to+1]--
-	}
-	least = len(spans)
-	at, n := 1, 0
-	for _, next := range slices.Sorted(maps.Keys(steps)) {
-		switch {
-		case n == 0:
-			none += next - at
-		case next > at:
-			least = min(least, n)
-		}
-		at, n = next, n+steps[next]
-	}
-	return none, least
-}
-
-// passesOver tells whether keys that were told one behind the other at a revision have one between them that was there; it may be one that the revision created, if that was found made.
-func (l *lives) passesOver(kvs []api.KV, rev int, made bool) bool {
-	for i := 1; i < len(kvs); i++ {
-		at, _ := slices.BinarySearch(l.keys, kvs[i-1].Key)
-		for at++; l.keys[at] != kvs[i].Key; at++ {
-			if slices.ContainsFunc(l.there[l.keys[at]], func(s span) bool { return s.has(rev) && (made || s.from < rev) }) {
-				return true
+// leased tells when each lease is known to have been there, as keys had it: the spans of one have no revision in common.
+func (l *lives) leased() []span {
+	all := map[int][]span{}
+	for _, facts := range l.facts {
+		for _, f := range facts {
+			if f.kv.Lease != 0 {
+				all[f.kv.Lease] = append(all[f.kv.Lease], span{from: f.kv.Mod, to: f.still})
 			}
 		}
 	}
-	return false
+	var apart []span
+	for _, spans := range all {
+		apart = append(apart, joined(spans)...)
+	}
+	return apart
+}
+
+// joined makes one of spans that have a revision in common.
+func joined(spans []span) []span {
+	slices.SortFunc(spans, func(a, b span) int { return cmp.Compare(a.from, b.from) })
+	var all []span
+	for _, s := range spans {
+		if n := len(all); n > 0 && s.from <= all[n-1].to {
+			all[n-1].to = max(all[n-1].to, s.to)
+		} else {
+			all = append(all, s)
+		}
+	}
+	return all
 }

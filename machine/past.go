@@ -26,10 +26,10 @@ func (m *Machine) couldBeDone() bool {
 	from := m.store.Compacted()
 	base := keysAt(m.store, from)
 	n, _ := slices.BinarySearchFunc(replies, from+1, byRev)
-	if !couldBeCompacted(from, base, replies[:n]) {
+	p := &past{scene: newScene(base), replies: replies[n:], terms: newTerms(m.leases.All(), m.clock)}
+	if !couldBeCompacted(limitsOfAll(), from, p.latest(), base, replies[:n]) {
 		return false
 	}
-	p := &past{scene: newScene(base), replies: replies[n:], terms: newTerms(m.leases.All(), m.clock)}
 	if n > 0 {
 		p.now = replies[n-1].Time
 	}
@@ -76,14 +76,19 @@ func revisionOf(events []api.Event) int {
 	return n
 }
 
+// latest tells what time it is, at the latest.
+func (p *past) latest() int {
+	if len(p.replies) > 0 {
+		return p.replies[0].Time
+	}
+	return p.clock
+}
+
 // makes goes on by one revision, and by the replies that were answered at it, if commands can do that.
 func (p *past) makes(events []api.Event) bool {
 	n, _ := slices.BinarySearchFunc(p.replies, events[0].Rev+1, byRev)
 	at := p.replies[:n]
-	latest := p.clock
-	if len(p.replies) > 0 {
-		latest = p.replies[0].Time
-	}
+	latest := p.latest()
 	if len(events) > api.MaxOps || n > 0 { // else each change can be an operation of its own
 		runs := p.runs(events)
 		made, fits := p.maker(events, runs, at)
@@ -117,7 +122,7 @@ func (p *past) maker(events []api.Event, runs []int, at []api.Reply) (made, fits
 		behind.do(e)
 	}
 	for _, r := range at {
-		if behind.answers(r) {
+		if behind.answers(limitsOfAll(), r) {
 			continue
 		}
 		if made || r.Time != at[0].Time || !p.couldMake(events, runs, r.Results) {

@@ -81,13 +81,10 @@ func (s *scene) tells(r api.Result) bool {
 	return true
 }
 
-// lacksRoom tells whether there are so many keys that a transaction can be refused because it puts more.
-func lacksRoom(keys int) bool { return keys+api.MaxOps > api.MaxKeys }
-
 // answers says whether a command that changes nothing can be answered so.
-func (s *scene) answers(r api.Reply) bool {
+func (s *scene) answers(l limits, r api.Reply) bool {
 	if r.Err == api.ErrFull {
-		return lacksRoom(len(s.keys))
+		return l.lacksRoom(len(s.keys))
 	}
 	return !slices.ContainsFunc(r.Results, func(x api.Result) bool { return !s.tells(x) })
 }
